@@ -1,0 +1,1 @@
+"""Forkhaul: histories that are forked, fetched, searched and never lost."""

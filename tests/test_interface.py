@@ -1,0 +1,81 @@
+"""The rows of "The interface": names, arguments, defaults, and the file in which each stands."""
+
+import importlib
+import inspect
+import unittest
+
+FUNCTIONS = {
+    "words": {"is_id": "(thing)", "is_path": "(thing)", "is_ref": "(thing)", "is_author": "(thing)",
+              "is_text": "(thing)"},
+    "codes": {"encode": "(thing)", "decode": "(data)", "sum_of": "(data, *, short=False)",
+              "id_of": "(thing, *, short=False)"},
+    "history": {"commit_of": "(store, name)"},
+}
+
+CLASSES = {
+    "errors": {"ForkError": {"__init__": "(self, why='')"}},
+    "objects": {
+        "Blob": {"__init__": "(self, text)", "__eq__": None},
+        "Tree": {"__init__": "(self, entries)", "__eq__": None},
+        "Commit": {"__init__": "(self, tree, parents=(), *, author, time, message='')", "__eq__": None},
+        "Tag": {"__init__": "(self, target, *, label, message='')", "__eq__": None},
+    },
+    "store": {
+        "Store": {"__init__": "(self, *, short=False)", "put": "(self, thing)", "ids": "(self)",
+                  "parts": "(self, name)", "missing": "(self, starts, *, cut=())",
+                  "walk": "(self, starts, *, without=(), cut=())", "put_files": "(self, files)",
+                  "files_of": "(self, name)", "copied": "(self)", "__getitem__": None, "__contains__": None,
+                  "__len__": None},
+    },
+    "history": {
+        "History": {"__init__": "(self, store, *, cut=())", "parents_of": "(self, name)",
+                    "independent": "(self, names)", "bases": "(self, one, other)", "files": "(self, name)",
+                    "reaches": "(self, one, other)", "generation": "(self, name)", "order": "(self, names)",
+                    "first_parents": "(self, name)", "ahead_behind": "(self, one, other)", "span": "(self, names)"},
+        "Span": {"ids": "(self)", "heads": "(self)", "__len__": None, "__contains__": None, "__or__": None,
+                 "__and__": None, "__sub__": None, "__le__": None, "__eq__": None},
+    },
+    "refs": {
+        "Refs": {"__init__": "(self, state=None)", "names": "(self)", "head": "(self)", "state": "(self)",
+                 "at_head": "(self)", "back": "(self, name, n)", "log": "(self, name)",
+                 "expire": "(self, now, *, age)", "edit": "(self, who, time, message)", "__getitem__": None,
+                 "__contains__": None, "__len__": None},
+    },
+    "edits": {
+        "Edit": {"point": "(self, ref, new, *, old='')", "delete": "(self, ref, *, old='')",
+                 "stand": "(self, word, name)", "finish": "(self)", "drop": "(self)", "moves": "(self)",
+                 "behind": "(self)", "__enter__": None, "__exit__": None},
+    },
+}
+
+GENERATORS = (("store", "Store", "walk"), ("history", "History", "order"), ("history", "History", "first_parents"))
+
+
+class Interface(unittest.TestCase):
+    def test_functions(self):
+        for file, rows in FUNCTIONS.items():
+            module = importlib.import_module(f"forkhaul.{file}")
+            for name, arguments in rows.items():
+                function = getattr(module, name)
+                self.assertEqual(function.__module__, module.__name__)
+                self.assertEqual(str(inspect.signature(function)), arguments, name)
+
+    def test_classes_and_their_methods(self):
+        for file, classes in CLASSES.items():
+            module = importlib.import_module(f"forkhaul.{file}")
+            for name, methods in classes.items():
+                made = getattr(module, name)
+                self.assertEqual(made.__module__, module.__name__)
+                for method, arguments in methods.items():
+                    self.assertIn(method, vars(made), f"{name} defines {method} itself")
+                    if arguments is not None:
+                        self.assertEqual(str(inspect.signature(vars(made)[method])), arguments, f"{name}.{method}")
+
+    def test_generators(self):
+        for file, name, method in GENERATORS:
+            made = getattr(importlib.import_module(f"forkhaul.{file}"), name)
+            self.assertTrue(inspect.isgeneratorfunction(vars(made)[method]))
+
+
+if __name__ == "__main__":
+    unittest.main()

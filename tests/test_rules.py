@@ -1,0 +1,69 @@
+"""Some of the rules of the language of the package, those that a short look at each file can see."""
+
+import ast
+import builtins
+import os
+import unittest
+
+PACKAGE = os.path.join(os.path.dirname(os.path.dirname(os.path.abspath(__file__))), "forkhaul")
+BUILTINS = set("""len range enumerate zip min max sum abs sorted reversed int str bool list tuple dict set isinstance
+    ord repr any all divmod iter next map super ValueError TypeError KeyError IndexError LookupError""".split())
+DECORATORS = ("property", "staticmethod", "classmethod")
+BARRED = (ast.Global, ast.Lambda, ast.AsyncFunctionDef, ast.Await, ast.TryStar)
+
+
+class Rules(unittest.TestCase):
+    def files(self):
+        for name in sorted(os.listdir(PACKAGE)):
+            if name != "__pycache__":
+                self.assertRegex(name, "^[a-z0-9_]+[.]py$")
+                with open(os.path.join(PACKAGE, name), encoding="ascii") as file:
+                    yield name, file.read()
+
+    def test_sizes_and_characters(self):
+        for name, text in self.files():
+            lines = text.split("\n")
+            self.assertTrue(len(lines) <= 400, name)
+            for number, line in enumerate(lines, start=1):
+                self.assertTrue(len(line) <= 120 and line == line.rstrip(), (name, number))
+                self.assertTrue(all([" " <= sign <= "~" for sign in line]), (name, number))
+
+    def test_statements(self):
+        for name, text in self.files():
+            for node in ast.walk(ast.parse(text)):
+                place = (name, getattr(node, "lineno", 0))
+                self.assertNotIsInstance(node, BARRED, place)
+                if isinstance(node, ast.Import):
+                    self.fail(place)
+                if isinstance(node, ast.ImportFrom):
+                    self.assertRegex(node.module, "^forkhaul[.][a-z0-9_]+$", place)
+                if isinstance(node, ast.FunctionDef):
+                    self.assertTrue(node.end_lineno - node.lineno < 40, place)
+                    for decorator in node.decorator_list:
+                        self.assertIn(ast.unparse(decorator), DECORATORS, place)
+                if isinstance(node, ast.Constant):
+                    self.assertNotIsInstance(node.value, (float, complex), place)
+                    if isinstance(node.value, str):
+                        self.assertNotIn(chr(37), node.value, place)
+                if isinstance(node, ast.BinOp):
+                    self.assertNotIsInstance(node.op, ast.Div, place)
+
+    def test_builtins(self):
+        known = set(dir(builtins))
+        for name, text in self.files():
+            for node in ast.walk(ast.parse(text)):
+                if isinstance(node, ast.Call) and isinstance(node.func, ast.Name) and node.func.id in known:
+                    self.assertIn(node.func.id, BUILTINS, (name, node.lineno))
+
+    def test_no_builtin_gets_another_meaning(self):
+        known = set(dir(builtins))
+        for name, text in self.files():
+            for node in ast.walk(ast.parse(text)):
+                if isinstance(node, ast.Name) and isinstance(node.ctx, ast.Store):
+                    self.assertNotIn(node.id, known, (name, node.lineno))
+                if isinstance(node, ast.arg):
+                    self.assertNotIn(node.arg, known, (name, node.lineno))
+
+
+if __name__ == "__main__":
+    unittest.main()
