@@ -12,7 +12,12 @@ LATEST = 10 ** 12
 
 def is_id(thing):
     """Return whether it is 16 hexadecimal digits."""
-    return isinstance(thing, str) and len(thing) == 16 and _has_only(thing, HEX_DIGITS)
+    return isinstance(thing, str) and len(thing) == 16 and is_figures(thing)
+
+
+def is_figures(text):
+    """Return whether a text has hexadecimal digits alone."""
+    return _has_only(text, HEX_DIGITS)
 
 
 def is_path(thing):

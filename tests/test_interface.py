@@ -10,6 +10,9 @@ FUNCTIONS = {
     "codes": {"encode": "(thing)", "decode": "(data)", "sum_of": "(data, *, short=False)",
               "id_of": "(thing, *, short=False)"},
     "history": {"commit_of": "(store, name)"},
+    "revisions": {"revision_of": "(view, text)", "commits_of": "(view, text)"},
+    "merging": {"differences": "(old, new)", "merged": "(bases, ours, theirs)", "merge_of": "(history, one, other)"},
+    "replays": {"pick": "(store, name, onto, *, revert=False, time=None)"},
 }
 
 CLASSES = {
@@ -46,7 +49,25 @@ CLASSES = {
                  "stand": "(self, word, name)", "finish": "(self)", "drop": "(self)", "moves": "(self)",
                  "behind": "(self)", "__enter__": None, "__exit__": None},
     },
+    "revisions": {"View": {"__init__": "(self, store, refs, *, cut=())"}},
+    "changes": {
+        "Change": {"__init__": "(self, rows)", "plain": "(self)", "on": "(self, files)", "is_apart": "(self, other)",
+                   "__add__": None, "__neg__": None, "__eq__": None},
+    },
+    "replays": {
+        "Replay": {"__init__": "(self, store, names, onto)", "step": "(self)", "settle": "(self, files)",
+                   "skip": "(self)", "done": "(self)"},
+    },
 }
+
+PROPERTIES = (
+    ("objects", "Blob", ("text",)), ("objects", "Tree", ("entries",)), ("objects", "Tag", ("target", "label", "message")),
+    ("objects", "Commit", ("tree", "parents", "author", "time", "message")),
+    ("revisions", "View", ("store", "refs", "history")), ("changes", "Change", ("rows",)),
+    ("replays", "Replay", ("stopped", "tip")),
+)
+
+CLASS_METHODS = (("changes", "Change", "between", "(cls, old, new)"),)
 
 GENERATORS = (("store", "Store", "walk"), ("history", "History", "order"), ("history", "History", "first_parents"))
 
@@ -75,6 +96,18 @@ class Interface(unittest.TestCase):
         for file, name, method in GENERATORS:
             made = getattr(importlib.import_module(f"forkhaul.{file}"), name)
             self.assertTrue(inspect.isgeneratorfunction(vars(made)[method]))
+
+    def test_properties(self):
+        for file, name, properties in PROPERTIES:
+            made = getattr(importlib.import_module(f"forkhaul.{file}"), name)
+            for word in properties:
+                self.assertIsInstance(vars(made)[word], property, f"{name}.{word}")
+
+    def test_class_methods(self):
+        for file, name, method, arguments in CLASS_METHODS:
+            made = getattr(importlib.import_module(f"forkhaul.{file}"), name)
+            self.assertIsInstance(vars(made)[method], classmethod)
+            self.assertEqual(str(inspect.signature(vars(made)[method].__func__)), arguments, f"{name}.{method}")
 
 
 if __name__ == "__main__":
