@@ -6,44 +6,9 @@ from forkhaul.errors import BadName, BadObject, NoObject
 from forkhaul.history import History, commit_of
 from forkhaul.objects import Blob, Commit, Tag, Tree
 from forkhaul.store import Store
-from tests.helpers import MOST, ONE, TWO, ZERO, Case, Diamond, World, no_names, odd_things
+from tests.helpers import MOST, ONE, TWO, ZERO, Case, Diamond, Plain, World, no_names, odd_things
 
 NO_TUPLES = [thing for thing in odd_things() if not isinstance(thing, tuple)] + ["a", [ONE], ONE]
-
-
-class Plain:
-    """The answers of a history, found in the plainest way."""
-
-    def __init__(self, store, cut=()):
-        self.store = store
-        self.cut = cut
-
-    def parents(self, name):
-        return () if name in self.cut else self.store[name].parents
-
-    def reached(self, *names):
-        found = set(names)
-        while True:
-            more = {parent for name in found for parent in self.parents(name)} | found
-            if more == found:
-                return found
-            found = more
-
-    def independent(self, names):
-        return tuple(sorted([name for name in set(names) if not any(
-            [other != name and name in self.reached(other) for other in set(names)])]))
-
-    def order(self, names):
-        left, out = set(names), []
-        while left:
-            ready = [name for name in left if not any(
-                [other != name and name in self.reached(other) for other in left])]
-            out.append(min(ready, key=lambda name: (-self.store[name].time, name)))
-            left.remove(out[-1])
-        return out
-
-    def generation(self, name):
-        return 1 + max([self.generation(parent) for parent in self.parents(name)], default=0)
 
 
 class CommitOf(Case):

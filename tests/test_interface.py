@@ -13,6 +13,10 @@ FUNCTIONS = {
     "revisions": {"revision_of": "(view, text)", "commits_of": "(view, text)"},
     "merging": {"differences": "(old, new)", "merged": "(bases, ours, theirs)", "merge_of": "(history, one, other)"},
     "replays": {"pick": "(store, name, onto, *, revert=False, time=None)"},
+    "logs": {"log_of": "(history, heads, *, paths=(), full=False)", "touched": "(history, head)"},
+    "plans": {"best": "(history, names)", "depth_of": "(history, names, plan)", "bounds": "(history, names)",
+              "shows_best": "(history, names, depth, bounds)"},
+    "packs": {"pack": "(store, ids)", "unpack": "(data)"},
 }
 
 CLASSES = {
@@ -58,6 +62,10 @@ CLASSES = {
         "Replay": {"__init__": "(self, store, names, onto)", "step": "(self)", "settle": "(self, files)",
                    "skip": "(self)", "done": "(self)"},
     },
+    "search": {
+        "Search": {"__init__": "(self, history)", "bad": "(self, name)", "good": "(self, name)", "skip": "(self, name)",
+                   "undo": "(self)", "candidates": "(self)", "next": "(self)", "found": "(self)"},
+    },
 }
 
 PROPERTIES = (
@@ -96,6 +104,7 @@ class Interface(unittest.TestCase):
         for file, name, method in GENERATORS:
             made = getattr(importlib.import_module(f"forkhaul.{file}"), name)
             self.assertTrue(inspect.isgeneratorfunction(vars(made)[method]))
+        self.assertTrue(inspect.isgeneratorfunction(importlib.import_module("forkhaul.logs").log_of))
 
     def test_properties(self):
         for file, name, properties in PROPERTIES:

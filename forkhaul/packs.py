@@ -1,0 +1,77 @@
+"""Packs [11.1] to [11.3]: objects of a store as bytes, with a sum at the end."""
+
+from forkhaul.codes import decode, encode, sum_of
+from forkhaul.errors import BadObject, BadPack
+from forkhaul.words import ascending
+
+MOST_OBJECTS = 9999
+LONGEST_OBJECT = 999999
+SUM_LENGTH = 16
+
+
+def pack(store, ids):
+    """Return the pack of the objects with these ids."""
+    codes = [encode(store[name]) for name in ids]
+    # The order is that of the long ids, also where the store has short ones.
+    by_sum = {sum_of(code): code for code in codes}
+    parts = [_line_of("pack ", len(by_sum))]
+    for name in ascending(by_sum):
+        parts.extend([_line_of("", len(by_sum[name])), by_sum[name]])
+    body = b"".join(parts)
+    return body + sum_of(body).encode("ascii")
+
+
+def unpack(data):
+    """Return the list of the objects of a pack; BadPack(at) tells where it is none."""
+    if not isinstance(data, bytes):
+        raise BadPack(0)
+    many, at = _number_at(data, 0, b"pack ", MOST_OBJECTS)
+    things = []
+    last = ""
+    for _ in range(many):
+        length, begin = _number_at(data, at, b"", LONGEST_OBJECT)
+        if length == 0:
+            raise BadPack(at)
+        at = begin + length
+        thing, name = _thing_at(data, begin, at)
+        if name <= last:
+            raise BadPack(begin)
+        things.append(thing)
+        last = name
+    _check_sum(data, at)
+    return things
+
+
+def _line_of(head, number):
+    return f"{head}{number}\n".encode("ascii")
+
+
+def _number_at(data, at, head, most):
+    """Return the number in the line that begins at this index, behind its head, and the index behind the line."""
+    end = data.find(b"\n", at)
+    # A line of very many digits is left alone: Python refuses to read it as a number.
+    if end < 0 or end - at > len(head) + len(str(most)) or not data[at:end].startswith(head):
+        raise BadPack(at)
+    digits = data[at + len(head):end]
+    if not digits.isdigit() or (digits.startswith(b"0") and len(digits) > 1) or int(digits) > most:
+        raise BadPack(at)
+    return int(digits), end + 1
+
+
+def _thing_at(data, begin, end):
+    """Return the object with the bytes between these indexes, and its id."""
+    code = data[begin:end]
+    if end > len(data):
+        raise BadPack(begin)
+    try:
+        thing = decode(code)
+    except BadObject:
+        raise BadPack(begin) from None
+    return thing, sum_of(code)
+
+
+def _check_sum(data, at):
+    if data[at:at + SUM_LENGTH] != sum_of(data[:at]).encode("ascii"):
+        raise BadPack(at)
+    if len(data) > at + SUM_LENGTH:
+        raise BadPack(at + SUM_LENGTH)
