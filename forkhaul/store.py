@@ -17,7 +17,10 @@ class Store:
     def put(self, thing):
         """Add an object and return its id."""
         name = id_of(thing, short=self._short)
-        self._put_all([(name, thing)])
+        if name not in self._things:
+            self._things[name] = thing
+        elif self._things[name] != thing:
+            raise Clash(name)
         return name
 
     def __getitem__(self, name):

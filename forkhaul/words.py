@@ -12,12 +12,12 @@ LATEST = 10 ** 12
 
 def is_id(thing):
     """Return whether it is 16 hexadecimal digits."""
-    return isinstance(thing, str) and len(thing) == 16 and is_figures(thing)
+    return isinstance(thing, str) and len(thing) == 16 and thing.strip(HEX_DIGITS) == ""
 
 
 def is_figures(text):
     """Return whether a text has hexadecimal digits alone."""
-    return _has_only(text, HEX_DIGITS)
+    return text.strip(HEX_DIGITS) == ""
 
 
 def is_path(thing):
@@ -56,7 +56,7 @@ def is_text(thing):
     """Return whether it is the text of a file: at most 2,000 signs from the blank to `~` and line feeds."""
     if not isinstance(thing, str) or len(thing) > LONGEST_TEXT:
         return False
-    return all([sign == "\n" or " " <= sign <= "~" for sign in thing])
+    return thing.isascii() and thing.replace("\n", "").isprintable()
 
 
 def is_message(thing):
@@ -96,8 +96,5 @@ def have_prefixes(paths):
 
 
 def _is_word(thing, signs):
-    return isinstance(thing, str) and 1 <= len(thing) <= LONGEST_WORD and _has_only(thing, signs)
-
-
-def _has_only(text, signs):
-    return all([sign in signs for sign in text])
+    # What is left when the allowed signs are stripped off begins with another one.
+    return isinstance(thing, str) and 1 <= len(thing) <= LONGEST_WORD and thing.strip(signs) == ""
