@@ -4,8 +4,8 @@ from forkhaul.codes import decode, encode, sum_of
 from forkhaul.errors import BadObject, BadPack
 from forkhaul.words import ascending
 
-MOST_OBJECTS = 9999
-LONGEST_OBJECT = 999999
+COUNT_DIGITS = 4
+LENGTH_DIGITS = 6
 SUM_LENGTH = 16
 
 
@@ -25,11 +25,11 @@ def unpack(data):
     """Return the list of the objects of a pack; BadPack(at) tells where it is none."""
     if not isinstance(data, bytes):
         raise BadPack(0)
-    many, at = _number_at(data, 0, b"pack ", MOST_OBJECTS)
+    many, at = _number_at(data, 0, b"pack ", COUNT_DIGITS)
     things = []
     last = ""
     for _ in range(many):
-        length, begin = _number_at(data, at, b"", LONGEST_OBJECT)
+        length, begin = _number_at(data, at, b"", LENGTH_DIGITS)
         if length == 0:
             raise BadPack(at)
         at = begin + length
@@ -46,14 +46,14 @@ def _line_of(head, number):
     return f"{head}{number}\n".encode("ascii")
 
 
-def _number_at(data, at, head, most):
+def _number_at(data, at, head, most_digits):
     """Return the number in the line that begins at this index, behind its head, and the index behind the line."""
     end = data.find(b"\n", at)
-    # A line of very many digits is left alone: Python refuses to read it as a number.
-    if end < 0 or end - at > len(head) + len(str(most)) or not data[at:end].startswith(head):
-        raise BadPack(at)
     digits = data[at + len(head):end]
-    if not digits.isdigit() or (digits.startswith(b"0") and len(digits) > 1) or int(digits) > most:
+    # A number of very many digits is left alone: Python refuses to read it.
+    if end < 0 or not data[at:end].startswith(head) or not digits.isdigit() or len(digits) > most_digits:
+        raise BadPack(at)
+    if digits.startswith(b"0") and len(digits) > 1:
         raise BadPack(at)
     return int(digits), end + 1
 

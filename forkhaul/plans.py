@@ -100,14 +100,14 @@ def _depth_of_plan(names, rows, bits, plan):
     """Return the depth of what should be a plan for a set."""
     splits = _splits(rows, bits)
     if not splits:
-        if not isinstance(plan, str) or plan != _key_of(names, bits)[0]:
+        if plan != _key_of(names, bits)[0]:
             raise BadMark("the plan for one commit is its id")
         return 0
     if not isinstance(plan, tuple) or len(plan) != 3:
         raise BadMark("a plan is a tuple of a test and two plans")
     test, bad_plan, good_plan = plan
     for number, bad, good in splits:
-        if isinstance(test, str) and test == names[number]:
+        if test == names[number]:
             return 1 + max(int(_depth_of_plan(names, rows, bad, bad_plan)),
                            int(_depth_of_plan(names, rows, good, good_plan)))
     raise BadMark("the test is none for this set")
@@ -137,8 +137,5 @@ def _is_key(thing, places):
 
 def _holds(rows, bits, table):
     """Return whether the number of a set follows from those of the sets that its tests leave."""
-    number = table[bits]
-    if number == 1:
-        return True
-    return all([table.get(bad, 0) >= number - 1 or table.get(good, 0) >= number - 1
-                for _, bad, good in _splits(rows, bits)])
+    rest = table[bits] - 1
+    return all([table.get(bad, 0) >= rest or table.get(good, 0) >= rest for _, bad, good in _splits(rows, bits)])

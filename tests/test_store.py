@@ -164,6 +164,18 @@ class ShortIds(Case):
                     self.assertEqual(store.files_of(root), files)
         self.assertTrue(clashes > 0)
 
+    def test_files_that_clash_with_what_is_there(self):
+        wanted = id_of(Tree({"a": ("file", ONE)}), short=True)
+        for number in range(5000):
+            blob = Blob(f"number {number}")
+            if id_of(blob, short=True) == wanted:
+                store = Store(short=True)
+                store.put(blob)
+                self.assert_error(Clash, store.put_files, {"a": ("file", ONE)}, name=wanted)
+                self.assertEqual((store.ids(), store[wanted]), ((wanted,), blob))
+                return
+        self.fail("no blob clashes with the tree")
+
     def test_files_that_clash_among_themselves(self):
         for number in range(2000):
             inner = Tree({f"x{number}": ("file", ONE)})
