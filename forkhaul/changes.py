@@ -55,7 +55,7 @@ class Change:
         return Change({**self._rows, **other._rows, **joined})
 
     def __neg__(self):
-        return Change({path: (new, old) for path, (old, new) in self._rows.items()})
+        return Change({path: (self._rows[path][1], self._rows[path][0]) for path in self._rows})
 
     def __eq__(self, other):
         return isinstance(other, Change) and self._rows == other._rows

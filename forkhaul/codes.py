@@ -65,7 +65,8 @@ def sum_of(data, *, short=False):
         number = number * factor + high * FACTOR_4 + low + ONES_8
         if number > LONG_NUMBER:
             number = int(number) % modulus
-    return f"{int(number) % modulus:016x}"
+    number = int(number) % modulus
+    return f"{number:016x}"
 
 
 def id_of(thing, *, short=False):

@@ -128,16 +128,16 @@ def _behind_suffix(view, name, suffix):
         return _at_path(view.store, _tree_at(view.store, name, at), worth, at)
     commit = _checked_commit(view.store, name, at)
     if kind == "~":
-        return _first_parent(view.history, commit, worth, at)
+        return _first_parent(view, commit, worth, at)
     if kind == "^" and worth > 0:
         parents = view.history.parents_of(commit)
         return _checked(parents[worth - 1] if worth <= len(parents) else None, at)
     return commit
 
 
-def _first_parent(history, name, number, at):
+def _first_parent(view, name, number, at):
     for _ in range(number):
-        parents = history.parents_of(name)
+        parents = view.history.parents_of(_checked_commit(view.store, name, at))
         name = _checked(parents[0] if parents else None, at)
     return name
 

@@ -309,6 +309,14 @@ class Suffixes(Values):
         self.assertEqual(self.revision("child^"), MOST)
         self.assert_error(NoObject, self.revision, "child^^0", name=MOST)
 
+    def test_parents_that_are_no_commits(self):
+        self.point("odd", self.world.commit("odd", self.blob))
+        self.assertEqual(self.revision("odd~"), self.blob)
+        self.assert_bad("odd~2", 3)
+        self.assert_bad("odd~~", 4)
+        self.assert_bad("odd^^0", 4)
+        self.assert_bad_set("main odd~", 5)
+
     def test_parents_are_those_of_the_history(self):
         view = View(self.store, self.refs, cut=(self.left, self.merge))
         for text, at in (("main~", 4), ("main^2", 4), (self.left + "^", 16)):

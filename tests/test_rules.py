@@ -45,6 +45,8 @@ class Rules(unittest.TestCase):
                     self.assertNotIsInstance(node.value, (float, complex), place)
                     if isinstance(node.value, str):
                         self.assertNotIn(chr(37), node.value, place)
+                if isinstance(node, ast.JoinedStr):
+                    self.assertNotIn(chr(37), ast.get_source_segment(text, node), place)
                 if isinstance(node, ast.BinOp):
                     self.assertNotIsInstance(node.op, ast.Div, place)
 
