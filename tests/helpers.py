@@ -2,10 +2,13 @@
 
 import unittest
 
+from forkhaul.changes import Change
 from forkhaul.errors import BadName
 from forkhaul.history import History
 from forkhaul.objects import Blob, Commit, Tag, Tree
 from forkhaul.refs import Refs
+from forkhaul.revisions import View
+from forkhaul.search import Search
 from forkhaul.store import Store
 
 ZERO = "0" * 16
@@ -23,7 +26,8 @@ def odd_things():
         memoryview(b"a"), (), ((),), (1, 2), [], [ONE], {}, {ONE: 1}, set(), {ONE}, frozenset((ONE,)), range(3),
         iter([]), (n for n in ()), slice(1), object(), int, str, len, odd_things, ValueError("x"), BadName("x"),
         Blob("x"), Tree({}), Commit(ONE, author="ann", time=1), Tag(ONE, label="v1"),
-        Store(), refs, refs.edit("ann", 1, ""), History(Store()), History(Store()).span(()),
+        Store(), refs, refs.edit("ann", 1, ""), History(Store()), History(Store()).span(()), View(Store(), refs),
+        Change({}), Change({"a": (None, None)}), Search(History(Store())),
     ]
 
 

@@ -11,6 +11,10 @@ from tests.test_merging import X, Y, Z, no_files
 VALUES = (None, X, Y, Z)
 
 
+def no_changes():
+    return [thing for thing in odd_things() if not isinstance(thing, Change)]
+
+
 def no_rows():
     return [thing for thing in odd_things() if thing != {}] + [
         {"": (X, Y)}, {"A": (X, Y)}, {"a/": (X, Y)}, {"a/b/c/d/e/f/g": (X, Y)}, {1: (X, Y)}, {None: (X, Y)},
@@ -64,7 +68,7 @@ class Making(Case):
         self.assertIs(one != Change({"b": (X, X), "a": (X, Y)}), False)
         for rows in ({}, {"a": (X, Y)}, {"a": (X, Y), "b": (Y, Y)}, {"a": (X, Y), "c": (X, X)}, {"a": (Y, X), "b": (X, X)}):
             self.assertIs(one == Change(rows), False)
-        for thing in [*odd_things(), one.rows]:
+        for thing in [*no_changes(), one.rows]:
             self.assertIs(one == thing, False)
             self.assertIs(thing == one, False)
             self.assertIs(Change({}) == thing, False)
@@ -136,7 +140,7 @@ class Sums(Case):
 
     def test_wrong_operands(self):
         change = Change({"a": (None, X)})
-        for thing in [*odd_things(), change.rows]:
+        for thing in [*no_changes(), change.rows]:
             self.assert_error(BadChange, lambda: change + thing)
             self.assert_error(BadChange, change.is_apart, thing)
 
