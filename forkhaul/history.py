@@ -24,13 +24,13 @@ class History:
         if not are_ids(cut):
             raise BadName("a cut is a tuple of ids")
         self._store = store
-        self._cut = cut
+        self._ends = {name: True for name in cut}
         self.graph = Graph(store, cut)
 
     def parents_of(self, name):
         """Return the parents of a commit in this history."""
         commit = commit_of(self._store, name)
-        return () if name in self._cut else commit.parents
+        return () if name in self._ends else commit.parents
 
     def tree_of(self, name):
         """Return the id of a commit's tree."""

@@ -33,18 +33,21 @@ def _files_of_all(history, commits, wanted):
     """
     by_tree = {}
     files = {}
+    known = {}
     for name in history.order(commits):
         tree = history.tree_of(name)
         if tree not in by_tree:
-            by_tree[tree] = _restricted(history.files(name), wanted)
+            by_tree[tree] = _restricted(history.files(name), wanted, known)
         files[name] = by_tree[tree]
     return files
 
 
-def _restricted(files, wanted):
-    if not wanted:
-        return files
-    return {path: files[path] for path in files if any([place in wanted for place in [path, *prefixes(path)]])}
+def _restricted(files, wanted, known):
+    """Return the files at or below the wanted paths; `known` keeps what was found out of each path."""
+    for path in files:
+        if path not in known:
+            known[path] = not wanted or any([place in wanted for place in [path, *prefixes(path)]])
+    return {path: files[path] for path in files if known[path]}
 
 
 def _walked(history, heads, kept, full):

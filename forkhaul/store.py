@@ -92,21 +92,22 @@ class Store:
 
     def _reached(self, starts, barred, cut):
         """Return a dict of all ids, present or not, that the starts reach without a way through the barred ones."""
+        ends = {name: True for name in cut}
         found = {}
         todo = list(starts)
         while todo:
             name = todo.pop()
             if name not in found and name not in barred:
                 found[name] = True
-                todo.extend(self._parts_within(name, cut))
+                todo.extend(self._parts_within(name, ends))
         return found
 
-    def _parts_within(self, name, cut):
-        """Return the parts that count with this cut; what is absent has none."""
+    def _parts_within(self, name, ends):
+        """Return the parts that count with a cut at these ends; what is absent has none."""
         if name not in self._things:
             return ()
         thing = self._things[name]
-        if isinstance(thing, Commit) and name in cut:
+        if isinstance(thing, Commit) and name in ends:
             return (thing.tree,)
         return _parts_of(thing)
 
