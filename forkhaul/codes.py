@@ -11,7 +11,7 @@ FACTOR_2 = FACTOR * FACTOR
 FACTOR_4 = FACTOR_2 * FACTOR_2
 FACTOR_8 = FACTOR_4 * FACTOR_4
 ONES_8 = (FACTOR_4 + 1) * (FACTOR_2 + 1) * (FACTOR + 1)
-LONG_NUMBER = 1 << 600
+BLOCK = 256
 
 
 def encode(thing):
@@ -53,25 +53,30 @@ def sum_of(data, *, short=False):
     modulus = SHORT_MODULUS if short is True else LONG_MODULUS
     factor = int(FACTOR_8) % modulus
     number = 7
-    rest = len(data) & 7
-    for byte in data[:rest]:
-        number = number * FACTOR + byte + 1
-    # Sums are most of the work of a store: eight bytes at once, and a remainder only where the number has grown long.
-    whole = data[rest:]
-    steps = iter(whole)
-    for a, b, c, d, e, f, g, h in zip(steps, steps, steps, steps, steps, steps, steps, steps):
-        high = (a * FACTOR + b) * FACTOR_2 + c * FACTOR + d
-        low = (e * FACTOR + f) * FACTOR_2 + g * FACTOR + h
-        number = number * factor + high * FACTOR_4 + low + ONES_8
-        if number > LONG_NUMBER:
-            number = int(number) % modulus
-    number = int(number) % modulus
+    for at in range(0, len(data), BLOCK):
+        number = int(_number_behind(number, data[at:at + BLOCK], factor)) % modulus
     return f"{number:016x}"
 
 
 def id_of(thing, *, short=False):
     """Return the id of an object: the sum of its canonical bytes."""
     return sum_of(encode(thing), short=short)
+
+
+def _number_behind(number, data, factor):
+    """Return what a sum's number becomes by some more bytes; `factor` stands for eight of them.
+
+    Sums are most of the work of a store: it is done by eight bytes at once, and without a remainder at each step.
+    """
+    rest = len(data) & 7
+    for byte in data[:rest]:
+        number = number * FACTOR + byte + 1
+    whole = data[rest:]
+    steps = iter(whole)
+    for a, b, c, d, e, f, g, h in zip(steps, steps, steps, steps, steps, steps, steps, steps):
+        number = number * factor + ((a * FACTOR + b) * FACTOR_2 + (c * FACTOR + d)) * FACTOR_4 + (
+            (e * FACTOR + f) * FACTOR_2 + (g * FACTOR + h + ONES_8))
+    return number
 
 
 def _line_at(data, at):

@@ -277,6 +277,13 @@ class Sums(Case):
             self.assertTrue(int(sum_of(data), 16) < LONG)
             self.assertTrue(int(sum_of(data, short=True), 16) < 251)
 
+    def test_each_length(self):
+        numbers = chance(9)
+        for many in [*range(80), *range(250, 275), *range(505, 520), 767, 768, 769, 2005, 20000]:
+            for data in (bytes([next(numbers) % 256 for _ in range(many)]), b"\x00" * many, b"\xff" * many):
+                self.assertEqual(sum_of(data), self.by_hand(data, LONG), many)
+                self.assertEqual(sum_of(data, short=True), self.by_hand(data, 251), many)
+
     def test_by_name_only(self):
         self.assertRaises(TypeError, sum_of, b"", True)
         self.assertRaises(TypeError, id_of, Blob(""), True)
