@@ -2,7 +2,7 @@
 
 from forkhaul.errors import BadName, BadObject
 from forkhaul.graph import Graph, count_of
-from forkhaul.objects import Commit
+from forkhaul.objects import Commit, Tag
 from forkhaul.words import are_ids, ascending
 
 
@@ -12,6 +12,13 @@ def commit_of(store, name):
     if not isinstance(thing, Commit):
         raise BadObject(0)
     return thing
+
+
+def behind_tags(store, name):
+    """Return the id to which a row of tags leads; it may be absent."""
+    while name in store and isinstance(store[name], Tag):
+        name = store[name].target
+    return name
 
 
 class History:

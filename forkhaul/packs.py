@@ -11,22 +11,28 @@ SUM_LENGTH = 16
 
 def pack(store, ids):
     """Return the pack of the objects with these ids."""
-    codes = [encode(store[name]) for name in ids]
+    things = [store[name] for name in ids]
     # The order is that of the long ids, also where the store has short ones.
-    by_sum = {sum_of(code): code for code in codes}
-    parts = [_line_of("pack ", len(by_sum))]
-    for name in ascending(by_sum):
-        parts.extend([_line_of("", len(by_sum[name])), by_sum[name]])
+    by_long_id = {store.long_id(name): thing for name, thing in zip(ids, things)}
+    parts = [_line_of("pack ", len(by_long_id))]
+    for name in ascending(by_long_id):
+        code = encode(by_long_id[name])
+        parts.extend([_line_of("", len(code)), code])
     body = b"".join(parts)
     return body + sum_of(body).encode("ascii")
 
 
 def unpack(data):
     """Return the list of the objects of a pack; BadPack(at) tells where it is none."""
+    return list(unpacked(data).values())
+
+
+def unpacked(data):
+    """Return the dict of the objects of a pack by their ids."""
     if not isinstance(data, bytes):
         raise BadPack(0)
     many, at = _number_at(data, 0, b"pack ", COUNT_DIGITS)
-    things = []
+    things = {}
     last = ""
     for _ in range(many):
         length, begin = _number_at(data, at, b"", LENGTH_DIGITS)
@@ -36,7 +42,7 @@ def unpack(data):
         thing, name = _thing_at(data, begin, at)
         if name <= last:
             raise BadPack(begin)
-        things.append(thing)
+        things[name] = thing
         last = name
     _check_sum(data, at)
     return things

@@ -2,8 +2,8 @@
 
 from forkhaul.errors import BadExpression, NoObject, NoRef
 from forkhaul.expressions import is_id_or_prefix, read_revision, read_terms
-from forkhaul.history import History
-from forkhaul.objects import Commit, Tag, Tree
+from forkhaul.history import History, behind_tags
+from forkhaul.objects import Commit, Tree
 from forkhaul.words import is_id
 
 
@@ -63,7 +63,7 @@ def _ends_of(history, form, commits):
 
 def _commit_of_revision(view, revision):
     """Return the commit to which a revision in a set leads."""
-    name = _without_tags(view.store, _value_of(view, revision))
+    name = behind_tags(view.store, _value_of(view, revision))
     return _checked_commit(view.store, name, revision[0])
 
 
@@ -112,7 +112,7 @@ def _named(view, name, at):
 
 def _first_with_word(view, word, at):
     """Return the first commit behind HEAD, in order, that has the word in its message."""
-    head = _checked_commit(view.store, _without_tags(view.store, _at_head(view)), at)
+    head = _checked_commit(view.store, behind_tags(view.store, _at_head(view)), at)
     commits = view.history.span((head,)).ids()
     found = [name for name in view.history.order(commits) if word in view.store[name].message]
     return _checked(found[0] if found else None, at)
@@ -121,7 +121,7 @@ def _first_with_word(view, word, at):
 def _behind_suffix(view, name, suffix):
     """Return the id to which a suffix leads from an id."""
     kind, at, worth = suffix
-    name = _without_tags(view.store, name)
+    name = behind_tags(view.store, name)
     if kind == "tree":
         return _tree_at(view.store, name, at)
     if kind == ":":
@@ -160,15 +160,6 @@ def _at_path(store, name, path, at):
         if not isinstance(thing, Tree) or segment not in thing.entries:
             raise BadExpression(at)
         kind, name = thing.entries[segment]
-    return name
-
-
-def _without_tags(store, name):
-    """Return the id of what a row of tags leads to."""
-    thing = store[name]
-    while isinstance(thing, Tag):
-        name = thing.target
-        thing = store[name]
     return name
 
 

@@ -1,6 +1,8 @@
 """States of references [6.1] as tuples: pairs of references and ids, HEAD, and logs."""
 
-from forkhaul.words import ascending, have_prefixes, is_id, is_message, is_ref, is_short_ref, is_time
+from forkhaul.words import (
+    ascending, have_prefixes, is_id, is_id_or_none, is_message, is_ref, is_short_ref, is_time,
+)
 
 NEW_STATE = ((), ("ref", "main"), ())
 
@@ -10,7 +12,7 @@ def is_state(thing):
     if not isinstance(thing, tuple) or len(thing) != 3:
         return False
     rows, head, logs = thing
-    if not _are_rows(rows) or not is_head(head) or not _are_rows(logs):
+    if not are_rows(rows) or not is_head(head) or not are_rows(logs):
         return False
     ids = {ref: name for ref, name in rows}
     return (all([is_ref(ref) and is_id(ids[ref]) for ref in ids]) and not have_prefixes(ids)
@@ -69,7 +71,7 @@ def sorted_rows(table):
     return tuple([(name, table[name]) for name in ascending(table)])
 
 
-def _are_rows(thing):
+def are_rows(thing):
     """Return whether it is a tuple of pairs with texts in front, strictly ascending."""
     if not isinstance(thing, tuple):
         return False
@@ -86,9 +88,5 @@ def _is_entry(thing):
     if not isinstance(thing, tuple) or len(thing) != 5:
         return False
     old, new, who, time, message = thing
-    return (_is_id_or_none(old) and _is_id_or_none(new) and is_short_ref(who)
+    return (is_id_or_none(old) and is_id_or_none(new) and is_short_ref(who)
             and is_time(time) and is_message(message))
-
-
-def _is_id_or_none(thing):
-    return thing is None or is_id(thing)

@@ -43,13 +43,13 @@ class Store:
 
     def parts(self, name):
         """Return the ids that an object names."""
-        return _parts_of(self[name])
+        return parts_of(self[name])
 
     def walk(self, starts, *, without=(), cut=()):
         """Yield what the starts reach and `without` does not: tags, commits, trees, blobs, each ascending."""
         _check_ids((starts, without, cut))
-        barred = self._reached(starts=without, barred={}, cut=cut)
-        found = self._reached(starts=starts, barred=barred, cut=cut)
+        barred = self.closure(without, {}, cut)
+        found = self.closure(starts, barred, cut)
         absent = self._absent(found)
         if absent:
             raise NoObject(absent[0])
@@ -60,7 +60,7 @@ class Store:
     def missing(self, starts, *, cut=()):
         """Return all absent ids that the starts reach, ascending."""
         _check_ids((starts, cut))
-        return self._absent(self._reached(starts=starts, barred={}, cut=cut))
+        return self._absent(self.closure(starts, {}, cut))
 
     def put_files(self, files):
         """Put the trees for these files and return the id of the root."""
@@ -78,8 +78,33 @@ class Store:
     def copied(self):
         """Return an independent store with the same objects."""
         other = Store(short=self._short)
-        other._put_all(list(self._things.items()))
+        other.put_known(self._things)
         return other
+
+    def put_known(self, things):
+        """Add a dict of objects by their ids, which are known to be right."""
+        self._things.update(things)
+
+    def forget(self, name):
+        """Remove an object; no history of this store may be asked afterwards."""
+        del self._things[name]
+
+    def long_id(self, name):
+        """Return the long id of an object that is here."""
+        return id_of(self._things[name]) if self._short else name
+
+    def closure(self, starts, barred, cut):
+        """Return a dict of all ids, present or not, that the starts reach without a way through the barred ones."""
+        ends = {name: True for name in cut}
+        found = {}
+        todo = list(starts)
+        while todo:
+            name = todo.pop()
+            if name not in found and name not in barred:
+                found[name] = True
+                if name in self._things:
+                    todo.extend(parts_within(name, self._things[name], ends))
+        return found
 
     def _put_all(self, pairs):
         """Put objects with their ids; if one clashes, none is put."""
@@ -89,27 +114,6 @@ class Store:
                 raise Clash(name)
             fresh[name] = thing
         self._things.update(fresh)
-
-    def _reached(self, starts, barred, cut):
-        """Return a dict of all ids, present or not, that the starts reach without a way through the barred ones."""
-        ends = {name: True for name in cut}
-        found = {}
-        todo = list(starts)
-        while todo:
-            name = todo.pop()
-            if name not in found and name not in barred:
-                found[name] = True
-                todo.extend(self._parts_within(name, ends))
-        return found
-
-    def _parts_within(self, name, ends):
-        """Return the parts that count with a cut at these ends; what is absent has none."""
-        if name not in self._things:
-            return ()
-        thing = self._things[name]
-        if isinstance(thing, Commit) and name in ends:
-            return (thing.tree,)
-        return _parts_of(thing)
 
     def _absent(self, names):
         return ascending([name for name in names if name not in self._things])
@@ -144,7 +148,8 @@ def _check_ids(arguments):
             raise BadName("these are no tuples of ids")
 
 
-def _parts_of(thing):
+def parts_of(thing):
+    """Return the ids that an object names."""
     if isinstance(thing, Tree):
         return tuple([name for _, name in thing.entries.values()])
     if isinstance(thing, Commit):
@@ -152,6 +157,13 @@ def _parts_of(thing):
     if isinstance(thing, Tag):
         return (thing.target,)
     return ()
+
+
+def parts_within(name, thing, ends):
+    """Return the parts of the object with this id that count with a cut, a dict with the ids of it as its keys."""
+    if name in ends and isinstance(thing, Commit):
+        return (thing.tree,)
+    return parts_of(thing)
 
 
 def _rank(thing):

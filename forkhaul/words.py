@@ -20,6 +20,11 @@ def is_figures(text):
     return text.strip(HEX_DIGITS) == ""
 
 
+def is_id_or_none(thing):
+    """Return whether it is an id or None."""
+    return thing is None or is_id(thing)
+
+
 def is_path(thing):
     """Return whether it is one to six segments of a path, joined by slashes."""
     if not isinstance(thing, str):

@@ -3,7 +3,9 @@
 import unittest
 
 from forkhaul.changes import Change
+from forkhaul.disk import Disk
 from forkhaul.errors import BadName
+from forkhaul.fetching import Client, Server
 from forkhaul.history import History
 from forkhaul.objects import Blob, Commit, Tag, Tree
 from forkhaul.refs import Refs
@@ -28,6 +30,7 @@ def odd_things():
         Blob("x"), Tree({}), Commit(ONE, author="ann", time=1), Tag(ONE, label="v1"),
         Store(), refs, refs.edit("ann", 1, ""), History(Store()), History(Store()).span(()), View(Store(), refs),
         Change({}), Change({"a": (None, None)}), Search(History(Store())),
+        Disk(), Server(Store(), {}), Client(Store(), {}),
     ]
 
 

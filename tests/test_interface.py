@@ -17,6 +17,13 @@ FUNCTIONS = {
     "plans": {"best": "(history, names)", "depth_of": "(history, names, plan)", "bounds": "(history, names)",
               "shows_best": "(history, names, depth, bounds)"},
     "packs": {"pack": "(store, ids)", "unpack": "(data)"},
+    "cuts": {"shallow": "(store, heads, depth, *, cut=())"},
+    "fetching": {"talk": "(client, server)"},
+    "pushing": {
+        "judge": "(store, refs, commands, *, cut=(), rules=(), force=(), atomic=False)",
+        "accepted": "(store, refs, commands, *, cut=(), rules=(), force=(), atomic=False)",
+        "parcel": "(store, commands, shown, *, cut=())",
+    },
 }
 
 CLASSES = {
@@ -66,13 +73,23 @@ CLASSES = {
         "Search": {"__init__": "(self, history)", "bad": "(self, name)", "good": "(self, name)", "skip": "(self, name)",
                    "undo": "(self)", "candidates": "(self)", "next": "(self)", "found": "(self)"},
     },
+    "fetching": {
+        "Server": {"__init__": "(self, store, table, *, cut=())", "greet": "(self)", "take": "(self, letter)"},
+        "Client": {"__init__": "(self, store, table, *, cut=(), single=False, depth=None)", "take": "(self, letter)",
+                   "things": "(self)", "heads": "(self)", "cuts": "(self)"},
+    },
+    "disk": {
+        "Disk": {"__init__": "(self, *, left=None)", "limit": "(self, left)", "write": "(self, name, data)",
+                 "sync": "(self, name)", "rename": "(self, old, new)", "remove": "(self, name)",
+                 "read": "(self, name)", "names": "(self)", "crashed": "(self, mask)"},
+    },
 }
 
 PROPERTIES = (
     ("objects", "Blob", ("text",)), ("objects", "Tree", ("entries",)), ("objects", "Tag", ("target", "label", "message")),
     ("objects", "Commit", ("tree", "parents", "author", "time", "message")),
     ("revisions", "View", ("store", "refs", "history")), ("changes", "Change", ("rows",)),
-    ("replays", "Replay", ("stopped", "tip")),
+    ("replays", "Replay", ("stopped", "tip")), ("disk", "Disk", ("left",)),
 )
 
 CLASS_METHODS = (("changes", "Change", "between", "(cls, old, new)"),)
