@@ -1,7 +1,7 @@
 """A simulated disk [15.1] and what a crash leaves of it [15.2]."""
 
 from forkhaul.errors import BadCommand, BadName, Crash, NoObject
-from forkhaul.words import ascending, is_count
+from forkhaul.words import ascending, is_count, is_limit
 
 
 class Disk:
@@ -37,7 +37,6 @@ class Disk:
 
     def rename(self, old, new):
         """Replace a file by another one, which loses its old name."""
-        _check_name(old)
         _check_name(new)
         self._check_is_there(old)
         self._count_step()
@@ -91,6 +90,6 @@ def _check_name(name):
 
 
 def _checked_left(left):
-    if left is not None and not is_count(left):
+    if not is_limit(left):
         raise BadCommand("the steps that are left are None or a whole number of at least 0")
     return left

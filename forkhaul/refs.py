@@ -13,7 +13,7 @@ class Refs:
         if state is not None and not is_state(state):
             raise BadName("no state of references")
         self._locks = {}
-        self.become(NEW_STATE if state is None else state)
+        self._take_over(NEW_STATE if state is None else state)
 
     def __getitem__(self, ref):
         if ref not in self:
@@ -87,7 +87,16 @@ class Refs:
         self._locks = held
 
     def become(self, state):
-        """Take over a state; open edits and their locks stay."""
+        """Take over the state that an edit leaves; open edits and their locks stay."""
+        self._take_over(state)
+
+    def copied(self):
+        """Return equal references without open edits."""
+        other = Refs()
+        other._take_over(self.state())
+        return other
+
+    def _take_over(self, state):
         rows, head, logs = state
         self._table = {ref: name for ref, name in rows}
         self._head = head

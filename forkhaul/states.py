@@ -1,8 +1,6 @@
 """States of references [6.1] as tuples: pairs of references and ids, HEAD, and logs."""
 
-from forkhaul.words import (
-    ascending, have_prefixes, is_id, is_id_or_none, is_message, is_ref, is_short_ref, is_time,
-)
+from forkhaul.words import ascending, have_prefixes, is_id, is_id_or_none, is_message, is_ref, is_short_ref, is_time
 
 NEW_STATE = ((), ("ref", "main"), ())
 

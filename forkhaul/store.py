@@ -166,6 +166,22 @@ def parts_within(name, thing, ends):
     return parts_of(thing)
 
 
+def parts_first(things):
+    """Return an equal dict from ids to objects in which the parts of each object stand ahead of it."""
+    is_open = {}
+    ordered = {}
+    todo = list(things)
+    while todo:
+        name = todo[-1]
+        if name not in is_open:
+            is_open[name] = True
+            todo.extend([part for part in parts_of(things[name]) if part in things and part not in is_open])
+        else:
+            todo.pop()
+            ordered[name] = things[name]
+    return ordered
+
+
 def _rank(thing):
     """Return the place of an object's kind in a walk."""
     if isinstance(thing, Tag):

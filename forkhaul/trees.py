@@ -2,19 +2,41 @@
 
 from forkhaul.codes import id_of
 from forkhaul.errors import BadName, BadPath
-from forkhaul.objects import FILE_KINDS, Tree, is_value
+from forkhaul.objects import FILE_KINDS, Blob, Tree, is_value
 from forkhaul.words import ascending, have_prefixes, is_path
 
 
-def check_files(files):
-    """Raise BadPath or BadName for what is no dict of files that can be put."""
+def check_paths(files):
+    """Raise BadPath for what is no dict with paths that can stand side by side as its keys."""
     if not isinstance(files, dict) or not all([is_path(path) for path in files]):
         raise BadPath("files are a dict with paths as its keys")
     if have_prefixes(files):
         raise BadPath("one path lies below another one")
+
+
+def check_files(files):
+    """Raise BadPath or BadName for what is no dict of files that can be put."""
+    check_paths(files)
     for path in files:
         if not is_value(files[path], FILE_KINDS):
             raise BadName("a file is a tuple of its kind and an id")
+
+
+def things_of(texts):
+    """Return the id of the root tree for a dict from paths to tuples of a kind and a text, and a dict of all objects.
+
+    In the dict the parts of an object stand ahead of it.
+    """
+    check_paths(texts)
+    files = {}
+    things = {}
+    for path in ascending(texts):
+        kind, blob = _blob_of(texts[path])
+        name = id_of(blob)
+        things[name] = blob
+        files[path] = (kind, name)
+    trees = trees_for(files, False)
+    return trees[-1][0], {**things, **dict(trees)}
 
 
 def trees_for(files, short):
@@ -36,6 +58,13 @@ def trees_for(files, short):
     tree = Tree(entries)
     pairs.append((id_of(tree, short=short), tree))
     return pairs
+
+
+def _blob_of(thing):
+    """Return the kind and the blob of a tuple of a kind and a text."""
+    if not isinstance(thing, tuple) or len(thing) != 2 or thing[0] not in FILE_KINDS:
+        raise BadName("a file is a tuple of its kind and a text")
+    return thing[0], Blob(thing[1])
 
 
 def directories_of(tree):

@@ -79,6 +79,11 @@ def is_count(thing):
     return isinstance(thing, int) and not isinstance(thing, bool) and thing >= 0
 
 
+def is_limit(thing):
+    """Return whether it is None or a whole number of at least 0."""
+    return thing is None or is_count(thing)
+
+
 def are_ids(thing):
     """Return whether it is a tuple of ids."""
     return isinstance(thing, tuple) and all([is_id(name) for name in thing])

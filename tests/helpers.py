@@ -3,12 +3,14 @@
 import unittest
 
 from forkhaul.changes import Change
+from forkhaul.collecting import Collector
 from forkhaul.disk import Disk
 from forkhaul.errors import BadName
 from forkhaul.fetching import Client, Server
 from forkhaul.history import History
 from forkhaul.objects import Blob, Commit, Tag, Tree
 from forkhaul.refs import Refs
+from forkhaul.repo import Repo
 from forkhaul.revisions import View
 from forkhaul.search import Search
 from forkhaul.store import Store
@@ -22,6 +24,7 @@ MOST = "f" * 16
 def odd_things():
     """Objects of many built-in types and of the classes of the interface, none of them an allowed text."""
     refs = Refs()
+    repo = Repo(Disk())
     return [
         None, True, False, 0, 1, -1, 10 ** 30, 1.5, float("nan"), 2j, Ellipsis, NotImplemented,
         "", " ", "\n", "A", "a b", "/", "..", "\u00e9", "\ud800", b"", b"main", ONE.encode(), bytearray(b"a"),
@@ -30,7 +33,7 @@ def odd_things():
         Blob("x"), Tree({}), Commit(ONE, author="ann", time=1), Tag(ONE, label="v1"),
         Store(), refs, refs.edit("ann", 1, ""), History(Store()), History(Store()).span(()), View(Store(), refs),
         Change({}), Change({"a": (None, None)}), Search(History(Store())),
-        Disk(), Server(Store(), {}), Client(Store(), {}),
+        Disk(), Server(Store(), {}), Client(Store(), {}), repo, repo.edit("ann", 1, ""), Collector(repo, now=1, grace=0),
     ]
 
 

@@ -116,6 +116,17 @@ class Copies(Case):
         self.assertEqual(shallow(self.store, (names[-1],), 200), (tuple(sorted(names)), ()))
         self.assertEqual(shallow(self.store, (names[-1],), 199), (tuple(sorted(names[1:])), (names[1],)))
 
+    def test_a_ladder_with_more_ways_than_can_be_counted(self):
+        pair = (self.world.commit("l0"), self.world.commit("r0"))
+        rungs = [pair]
+        for at in range(1, 95):
+            pair = (self.world.commit(f"l{at}", *pair), self.world.commit(f"r{at}", *pair[::-1]))
+            rungs.append(pair)
+        for depth in (1, 40, 94, 95, 200):
+            kept, ends = shallow(self.store, pair, depth)
+            self.assertEqual(kept, tuple(sorted([name for rung in rungs[-depth:] for name in rung])))
+            self.assertEqual(ends, tuple(sorted(rungs[-depth])) if depth < 95 else ())
+
     def test_the_store_does_not_change(self):
         self.world.tossed(3, 5)
         before = self.store.ids()

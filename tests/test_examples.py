@@ -21,7 +21,7 @@ def blocks():
 
 class Examples(unittest.TestCase):
     def test_each_block(self):
-        self.assertTrue(len(blocks()) >= 23)
+        self.assertEqual(len(blocks()), 30)
         for lines, wanted in blocks():
             with self.subTest(last=lines[-1]):
                 names = {}

@@ -24,6 +24,12 @@ FUNCTIONS = {
         "accepted": "(store, refs, commands, *, cut=(), rules=(), force=(), atomic=False)",
         "parcel": "(store, commands, shown, *, cut=())",
     },
+    "collecting": {"collect": "(repo, *, now, grace)", "expire": "(repo, *, now, age)"},
+    "between": {
+        "fetch": "(repo, other, word, *, now, single=False, depth=None, letters=None)",
+        "push": "(repo, other, commands, word, *, now, rules=(), force=(), atomic=False, letters=None)",
+    },
+    "deepening": {"deepen": "(repo, other, word, *, now, depth, letters=None)"},
 }
 
 CLASSES = {
@@ -82,6 +88,16 @@ CLASSES = {
         "Disk": {"__init__": "(self, *, left=None)", "limit": "(self, left)", "write": "(self, name, data)",
                  "sync": "(self, name)", "rename": "(self, old, new)", "remove": "(self, name)",
                  "read": "(self, name)", "names": "(self)", "crashed": "(self, mask)"},
+    },
+    "repo": {
+        "Repo": {"__init__": "(self, disk)", "stored": "(self)", "references": "(self)", "cuts": "(self)",
+                 "holds": "(self)", "view": "(self)", "tick": "(self, name)", "put": "(self, thing, *, now)",
+                 "commit": "(self, texts, *, author, now, message='', parents=None)",
+                 "merge": "(self, name, *, author, now, message='')", "edit": "(self, who, now, message)",
+                 "hold": "(self, word, names, *, now)"},
+    },
+    "collecting": {
+        "Collector": {"__init__": "(self, repo, *, now, grace)", "step": "(self)", "garbage": "(self)"},
     },
 }
 
