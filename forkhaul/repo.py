@@ -57,7 +57,7 @@ class Repo:
         for part in parts_within(name, thing, ends):
             if part not in self.vault.shelf:
                 raise NoObject(part)
-        self.vault.keep({name: thing}, now, is_final=True)
+        self.vault.keep(name, thing, now)
         return name
 
     def commit(self, texts, *, author, now, message="", parents=None):
@@ -109,7 +109,7 @@ class Repo:
     def carry_out(self, edit, things, now, cut):
         """Put objects, parts first, and carry out an edit together with a new cut."""
         state = edit.behind()
-        self.vault.keep(things, now, is_final=False)
+        self.vault.bring(things, now)
         self._refs.assume(state, cut)
 
     def lose_entries(self, now, age):

@@ -15,7 +15,8 @@ class LogTexts:
 
     def bytes_of(self, saved):
         """Return the bytes of the file."""
-        many, (rows, (word, place), logs), cut, holds = saved
+        many, state, cut, holds = saved
+        rows, (word, place), logs = state
         texts = [f"saves {many}\nhead {word} {place}\n"]
         texts.extend([f"ref {ref} {name}\n" for ref, name in rows])
         texts.extend([f"cut {name}\n" for name in cut])

@@ -1,9 +1,9 @@
 """What a repository has on its disk [15.3], in such a way that a crash at any step loses nothing of it [15.5].
 
-Each object has a file with its canonical bytes. Its name tells the id, the tick, from how many saves on the object
-counts, and the length. So a tick is renewed by one rename; an object goes by one removal; half of a file is known
-by its length; and what a command brought that did not come to its save never counts. All the rest is one file, which is
-written under another name, and takes the place of the old one by a rename when it is safe.
+Each object has a file with its canonical bytes. Its name tells the id, the tick, from how many saves on the file
+counts, and the length. So one object gets a new tick by one rename, and goes by one removal; half of a file is known
+by its length; and what a command has brought counts from its save on, or never. All the rest is one file, which is
+written under another name, and takes the place of the old one by a rename when it is safe: that is the save.
 """
 
 from forkhaul.codes import decode, encode
@@ -26,6 +26,7 @@ class Vault:
         self._disk = disk
         self._texts = LogTexts()
         self._tails = {}
+        self._outdated = []
         self.shelf = Store()
         self.ticks = {}
         self.version = 0
@@ -36,17 +37,26 @@ class Vault:
             if file != SAVED and not self._load(file):
                 disk.remove(file)
 
-    def keep(self, things, now, *, is_final):
-        """Write objects, given as a dict in which parts stand first; what is there gets the tick alone.
+    def keep(self, name, thing, now):
+        """Write an object, or give it a new tick if it is there."""
+        if name not in self.ticks:
+            self._write(name, thing, now, self._saves)
+            return
+        if self.shelf[name] != thing:
+            raise Clash(name)
+        if self.ticks[name] != now:
+            self._disk.rename(self._file_of(name), f"{name} {now} {self._tails[name]}")
+            self.ticks[name] = now
+            self.version += 1
 
-        Unless this is final, they count once the next save is done.
-        """
-        saves = self._saves if is_final else self._saves + 1
+    def bring(self, things, now):
+        """Write objects anew, parts first, which count, with their ticks, once the next save is done."""
         for name in things:
+            if name in self.ticks and self.ticks[name] == now:
+                continue
             if name in self.ticks:
-                self._renew(name, things[name], now)
-            else:
-                self._write(name, things[name], now, saves)
+                self._outdated.append(self._file_of(name))
+            self._write(name, things[name], now, self._saves + 1)
 
     def check_present(self, names):
         """Raise NoObject with the least of these ids that is absent.
@@ -74,9 +84,12 @@ class Vault:
         self._saves = saves
         self.refs_state, self.cut, self.holding = refs_state, cut, holding
         self.version += 1
+        for file in self._outdated:
+            self._disk.remove(file)
+        self._outdated = []
 
     def _load(self, file):
-        """Take an object from its file, and return whether it is one that counts."""
+        """Take an object from its file, and return whether it is the one that counts."""
         words = file.split(" ")
         if len(words) != 4:
             return False
@@ -84,6 +97,11 @@ class Vault:
         data = self._disk.read(file)
         if int(saves) > self._saves or len(data) != int(length):
             return False
+        if name in self.ticks:
+            known = self._tails[name].split(" ")[0]
+            if int(saves) < int(known):
+                return False
+            self._disk.remove(self._file_of(name))
         self._take_in(name, decode(data), int(tick), f"{saves} {length}")
         return True
 
@@ -100,15 +118,6 @@ class Vault:
         self.ticks[name] = tick
         self._tails[name] = tail
         self.version += 1
-
-    def _renew(self, name, thing, now):
-        """Give an object that is there a new tick."""
-        if self.shelf[name] != thing:
-            raise Clash(name)
-        if self.ticks[name] != now:
-            self._disk.rename(self._file_of(name), f"{name} {now} {self._tails[name]}")
-            self.ticks[name] = now
-            self.version += 1
 
     def _file_of(self, name):
         return f"{name} {self.ticks[name]} {self._tails[name]}"

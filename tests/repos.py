@@ -78,6 +78,8 @@ class RepoCase(Case):
         for name in before["things"]:
             if name in reached or name in behind["things"]:
                 self.assertEqual(shot["things"][name], before["things"][name])
+            if name in reached:
+                self.assertEqual(shot["ticks"][name], before["ticks"][name])
         for name in shot["things"]:
             known = [side for side in (before, behind) if name in side["things"]]
             self.assertTrue(known, name)

@@ -59,7 +59,8 @@ class Commands(Sample):
         self.check(lambda repo: repo.put(Tree({"a": ("file", self.lone)}), now=60))
 
     def test_commit(self):
-        self.check(lambda repo: repo.commit(TEXTS, author="ann", now=60))
+        self.check(lambda repo: repo.commit(TEXTS, author="ann", now=60), again=False)
+        self.check(lambda repo: repo.commit(TEXTS, author="ann", now=60, parents=(self.two,)))
         self.check(lambda repo: repo.commit({}, author="ann", now=60, parents=()))
         self.check(lambda repo: repo.commit({"q/r/s": ("file", "1"), "q/t": ("file", "2")}, author="ann", now=60,
                                             parents=(self.one, self.side)), again=False)
@@ -149,7 +150,7 @@ class Commands(Sample):
         for disk in (Disk(), self.disk):
             self.check_crashes(disk, lambda repo: fetch(repo, shallow, "s", now=60), (0, 1, 2), ahead=ahead)
             self.check_crashes(disk, lambda repo: repo.put(Blob("fresh"), now=60), (0, 1, 2), ahead=ahead)
-            self.check_crashes(disk, lambda repo: repo.commit(TEXTS, author="ann", now=60), (0, 1, 2), ahead=ahead)
+            self.check_crashes(disk, lambda repo: repo.commit(TEXTS, author="ann", now=60, parents=()), (0, 1, 2), ahead=ahead)
 
     def test_deepening(self):
         disk, other = Disk(), self.other()
@@ -174,6 +175,36 @@ class Commands(Sample):
         push(quiet, repo, [("main", self.two, self.new)], "up", now=61)
         self.check_same(quiet, before)
         self.assertEqual(steps, [])
+
+
+class Afterwards(Sample):
+    def test_what_is_collected_behind_a_crash_does_not_come_back(self):
+        """Behind each number of steps of a commit that puts again what was there."""
+        for now in (60, 10):
+            self.check_afterwards(now)
+
+    def check_afterwards(self, now):
+        left, is_done = 0, False
+        while not is_done:
+            disk = copied(self.disk)
+            repo = Repo(disk)
+            disk.limit(left)
+            try:
+                repo.commit(TEXTS, author="ann", now=now)
+                is_done = True
+            except Crash:
+                pass
+            for mask in range(3):
+                other = disk.crashed(mask)
+                repo = Repo(other)
+                edited(repo, lambda edit: [edit.delete(ref) for ref in ("main", "v1")] and None)
+                repo.hold("w", (), now=61)
+                expire(repo, now=100, age=0)
+                self.assertTrue(collect(repo, now=100, grace=10))
+                self.check_same(Repo(copied(other)), snapshot(repo))
+                self.assertEqual(repo.stored().ids(), ())
+            left += 1
+        self.assertTrue(left > 10)
 
 
 class Rows(Sample):
