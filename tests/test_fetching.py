@@ -9,7 +9,7 @@ from forkhaul.history import History
 from forkhaul.objects import Blob, Commit, Tag, Tree
 from forkhaul.packs import pack, unpack
 from forkhaul.store import Store
-from tests.helpers import ONE, Case, World, chance
+from tests.helpers import ONE, Case, Diamond, World, chance
 from tests.transfers import Side, commits_in, letters_of, new_cut, reach, starts_of
 
 
@@ -52,14 +52,7 @@ class Fetches(Case):
         self.assertEqual(side.store.missing(tuple(side.table.values()), cut=side.cut), ())
 
 
-class Turns(Fetches):
-    def setUp(self):
-        world = self.world = World()
-        self.root = world.commit("root", time=1)
-        self.left = world.commit("left", self.root, time=2)
-        self.right = world.commit("right", self.root, time=3)
-        self.merge = world.commit("merge", self.left, self.right, time=4)
-
+class Turns(Diamond, Fetches):
     def test_each_letter_in_its_turn(self):
         client_store = copy_of(self.world.store, [self.world.tree, self.root])
         mine = client_store.put(Commit(self.world.tree, (self.root,), author="bob", time=9))
