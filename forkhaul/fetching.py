@@ -212,19 +212,22 @@ class Client:
         things = unpacked(data)
         joined = self._store.copied()
         joined.put_known(things)
-        owned = things if self._depth is None else {**self._owned, **things}
-        commits = {name: True for name in owned if isinstance(joined[name], Commit)}
-        if not all([name in commits for name in cut]):
-            raise BadLetter("the cut names what is no commit that was sent")
-        new_cut = ascending({name: True for name in (*self._cut, *cut)})
-        if self._depth is not None:
-            new_cut = tuple([name for name in new_cut if not _is_whole(joined, name, commits)])
+        new_cut = self._cut_behind(joined, things, cut)
         if joined.missing(self._wants, cut=new_cut):
             raise BadLetter("not all was sent that was wanted")
         self._things = things
         self._new_cut = new_cut
         self._is_done = True
         return None
+
+    def _cut_behind(self, joined, things, cut):
+        """Return the cut behind the fetch, given what was sent, and the cut of the letter, which may name any ids."""
+        both = ascending({name: True for name in (*self._cut, *cut)})
+        if self._depth is None:
+            return both
+        here = {**self._owned, **things}
+        commits = {name: True for name in here if isinstance(joined[name], Commit)}
+        return tuple([name for name in both if not _is_whole(joined, name, commits)])
 
 
 def talk(client, server):

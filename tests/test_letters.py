@@ -1,14 +1,16 @@
 """[12.5] Letters out of turn and of another form, wrong packs, packs that lack something, and what comes behind."""
 
 import unittest
+from itertools import product
 
-from forkhaul.codes import encode, sum_of
+from forkhaul.codes import encode, id_of, sum_of
 from forkhaul.errors import BadCommand, BadLetter, BadPack
 from forkhaul.fetching import Client, Server, talk
 from forkhaul.objects import Blob, Commit, Tag, Tree
 from forkhaul.packs import pack
 from forkhaul.store import Store
 from tests.helpers import MOST, ONE, TWO, ZERO, Case, World, no_names, odd_things
+from tests.transfers import Side, new_cut
 
 NO_BYTES = [thing for thing in odd_things() if not isinstance(thing, bytes)]
 NO_DEPTHS = [thing for thing in odd_things() if thing is not None and not (isinstance(thing, int) and thing == 1)] + [
@@ -235,11 +237,59 @@ class Clients(Session):
     def test_wrong_cuts(self):
         _, right = self.client_at(8)
         sent = sorted([self.top, self.line[5]])
-        for thing in [*no_names(), tuple(sent[::-1]), (sent[0], sent[0]), (self.mine,), (ONE,), (self.tag,), (MOST, ZERO)]:
+        for thing in [*no_names(), tuple(sent[::-1]), (sent[0], sent[0]), (MOST, ZERO), (ONE, TWO, TWO)]:
             self.check_wrong(self.client_at, 8, swapped(right, 2, thing))
+            self.check_wrong(self.client_at, 8, swapped(self.client_at(8, depth=9)[1], 2, thing), depth=9)
         client, _ = self.client_at(8)
         self.assertIsNone(client.take(swapped(right, 2, tuple(sent))))
         self.assertEqual(client.cuts(), tuple(sent))
+
+    def cuts_of_all_kinds(self):
+        """Ids of what was sent, of what the client had, of what is in its store or the server's, and of nothing."""
+        alone = self.client_store.put(Commit(self.world.tree, (), author="cid", time=2))
+        names = [self.top, self.tag, self.line[3], self.mine, self.line[1], self.world.tree, alone, self.side, ONE, MOST]
+        return [(name,) for name in names] + [tuple(sorted(names)), tuple(sorted(names[::2])), tuple(sorted(names[1::2]))]
+
+    def test_a_cut_names_any_ids(self):
+        """Without a depth all of them get into the cut, and what was sent is the same."""
+        for cut in self.cuts_of_all_kinds():
+            for old in ((), (self.line[2], TWO)):
+                client, right = self.client_at(8, cut=old)
+                self.assertIsNone(client.take(swapped(right, 2, cut)))
+                self.assertEqual(client.cuts(), tuple(sorted({*old, *cut})))
+                self.assertEqual(pack(self.store, [id_of(thing) for thing in client.things()]), right[1])
+                self.check_end(client, right)
+
+    def test_a_cut_names_any_ids_with_a_depth(self):
+        """Those of commits that the client had or was sent, with all of their parents, leave the cut; others stay."""
+        leave = {self.top, self.mine, *self.line}
+        for cut in self.cuts_of_all_kinds():
+            for old in ((), (self.line[2], TWO)):
+                client, right = self.client_at(8, cut=old, depth=9)
+                self.assertIsNone(client.take(swapped(right, 2, cut)))
+                # What lies behind an old cut was sent, too.
+                self.assertEqual(client.cuts(), tuple(sorted({*old, *cut} - leave)))
+                things = {id_of(thing): thing for thing in client.things()}
+                side = Side(self.client_store, {"main": self.mine}, old)
+                self.assertEqual(client.cuts(), new_cut(side, [swapped(right, 2, cut)], things, 9))
+                self.check_end(client, right)
+
+    def check_end(self, client, right):
+        """The client is over, and gives what it was shown."""
+        self.assertEqual(client.heads(), self.letters()[0][1])
+        self.assert_error(BadLetter, client.take, right)
+
+    def test_other_errors_with_a_cut_of_any_ids(self):
+        """Only what lies behind a commit of the cut may lack: not the commit, and no part of anything else."""
+        whole = [self.tag, self.top, *self.line[3:]]
+        names = [self.tag, self.world.tree, self.mine, self.side, ONE, self.line[4]]
+        for cut in [(name,) for name in names] + [(), tuple(sorted(names))]:
+            for depth in (None, 9):
+                for name in (self.tag, self.top, self.line[4], self.line[5]):
+                    less = pack(self.store, [other for other in whole if other != name])
+                    self.check_wrong(self.client_at, 8, ("pack", less, cut), depth=depth)
+                for data in (b"", None, pack(self.store, whole)[:-1]):
+                    self.check_wrong(self.client_at, 8, ("pack", data, cut), BadPack, depth=depth)
 
     def test_packs_that_lack_something(self):
         _, right = self.client_at(8)
@@ -276,22 +326,13 @@ class Clients(Session):
         blob = store.put(Blob("a"))
         tree = store.put(Tree({"a": ("file", blob)}))
         commit = store.put(Commit(tree, author="ann", time=1))
+        cuts = [(), (blob,), (tree,), (commit,), tuple(sorted([blob, tree, commit, ONE]))]
         for names in ((commit, tree), (commit, blob), (tree, blob), (blob,)):
-            client = Client(Store(), {})
-            self.assertEqual(client.take(("heads", (("a", commit),))), ("want", (commit,), (), None))
-            client.take(("ready",))
-            self.assert_error(BadLetter, client.take, ("pack", pack(store, names), ()))
-
-    def test_a_cut_of_a_fetch_with_a_depth(self):
-        """It may name what the client had, but nothing that neither side has brought."""
-        for cut, wrong in (((self.line[1],), False), ((self.mine,), False), ((self.top,), False), ((ONE,), True),
-                           ((self.side,), True), ((self.world.tree,), True)):
-            client, right = self.client_at(8, depth=9)
-            self.assertEqual(right[0], "pack")
-            if wrong:
-                self.assert_error(BadLetter, client.take, swapped(right, 2, cut))
-            else:
-                self.assertIsNone(client.take(swapped(right, 2, cut)))
+            for cut, depth in product(cuts, (None, 3)):
+                client = Client(Store(), {}, depth=depth)
+                self.assertEqual(client.take(("heads", (("a", commit),))), ("want", (commit,), (), depth))
+                client.take(("ready",))
+                self.assert_error(BadLetter, client.take, ("pack", pack(store, names), cut))
 
     def test_talk_gives_errors_on(self):
         server, client = self.machines(depth=0)
